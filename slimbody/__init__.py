@@ -1,0 +1,1 @@
+"""Slimbody: bodies of cells made slim by arrows."""

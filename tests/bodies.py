@@ -5,9 +5,9 @@ from slimbody.body import Body
 GREAT = 10 ** 5000
 
 
-def triangle():
+def triangle(kind=Body):
     """Points 0 to 2, stretches 3 to 5, the triangle 6."""
-    body = Body()
+    body = kind()
     for _ in range(3):
         body.put(0, [])
     for border in ([0, 1], [0, 2], [1, 2]):
@@ -16,17 +16,17 @@ def triangle():
     return body
 
 
-def points(count):
+def points(count, kind=Body):
     """A body of that many points."""
-    body = Body()
+    body = kind()
     for _ in range(count):
         body.put(0, [])
     return body
 
 
-def full():
+def full(kind=Body):
     """The triangle and points up to 120 cells."""
-    body = triangle()
+    body = triangle(kind)
     while len(body.cells()) < 120:
         body.put(0, [])
     return body

@@ -78,6 +78,30 @@ class LanguageTest(unittest.TestCase):
                 self.assertTrue(node.module.startswith("slimbody."), where)
                 self.assertNotIn("*", [alias.name for alias in node.names], where)
 
+    def test_imports_name_the_file_that_defines(self):
+        defined = {name[:-3]: [node.name for node in tree.body if isinstance(node, (ast.FunctionDef, ast.ClassDef))] + [
+            target.id for node in tree.body if isinstance(node, ast.Assign) for target in node.targets]
+            for name, _, tree in sources()}
+        for where, node in each_node():
+            if isinstance(node, ast.ImportFrom):
+                for alias in node.names:
+                    self.assertIn(alias.name, defined[node.module.partition(".")[2]], where)
+
+    def test_no_files_import_from_each_other(self):
+        needs = {name[:-3]: {node.module.partition(".")[2] for node in tree.body if isinstance(node, ast.ImportFrom)}
+                 for name, _, tree in sources()}
+        while needs:
+            free = [name for name in needs if not needs[name] & set(needs)]
+            self.assertNotEqual(free, [], needs)
+            for name in free:
+                del needs[name]
+
+    def test_super_stands_in_methods_and_calls_one(self):
+        for name, text, _ in sources():
+            for line in text.split("\n"):
+                if "super" in line:
+                    self.assertRegex(line, r"^ {8}(return )?super\(\)\.[a-z_]+\(", name)
+
     def test_statements_and_values(self):
         for where, node in each_node():
             self.assertNotIsInstance(node, BARRED, where)

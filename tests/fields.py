@@ -5,9 +5,11 @@ import itertools
 import random
 import signal
 
-from bodies import told, triangle
+from bodies import points, told, triangle
+from slimbody.carry import down, filled, slim_border, up
 from slimbody.errors import BodyError
 from slimbody.field import Field
+from slimbody.slim import slim_body
 
 
 @contextlib.contextmanager
@@ -30,9 +32,33 @@ def told_field(field):
     return told(field), field.arrows(), field.tails(), field.heads(), field.lone(), ends
 
 
+def told_slim(field):
+    """The slim body and its names."""
+    body, names = slim_body(field)
+    return told(body), names
+
+
+def told_carriers(field, *gone):
+    """What the carriers tell of each cell, and of sums of all and of the lone ones, without some cells."""
+    cells = [cell for cell in field.cells() if cell not in gone]
+    lone = [cell for cell in field.lone() if cell not in gone]
+    rows = [[cell] for cell in cells] + [cells, cells[::2]]
+    lone_rows = [[cell] for cell in lone] + [lone, lone[::2]]
+    return [(row, filled(field, row), down(field, row)) for row in rows] + [
+        (row, up(field, row), slim_border(field, row)) for row in lone_rows]
+
+
 def evens(*cells):
     """The cells added by evens."""
     return sorted(cell for cell in set(cells) if cells.count(cell) % 2)
+
+
+def tied_triangle():
+    """The triangle with points 0 and 1 tied to stretches 3 and 5: lone are 2, 4, 6."""
+    field = triangle(Field)
+    field.tie(0, 3)
+    field.tie(1, 5)
+    return field
 
 
 def row_of_points(count):
@@ -76,6 +102,15 @@ def fan(count):
     return field
 
 
+def dense(lows, highs, seed):
+    """Points, and stretches with about half of them in their borders."""
+    chance = random.Random(seed)
+    field = points(lows, Field)
+    for _ in range(highs):
+        field.put(1, [low for low in range(lows) if chance.randrange(2)])
+    return field
+
+
 def full_field(count):
     """The cells of all rows of some of the points, by length."""
     field = Field()
@@ -90,12 +125,12 @@ def full_field(count):
 def grid(wide, high):
     """The product of two closed rows: points, stretches, squares."""
     field = Field()
-    points = {(x, y): field.put(0, []) for x in range(wide) for y in range(high)}
+    corners = {(x, y): field.put(0, []) for x in range(wide) for y in range(high)}
     flat, steep = {}, {}
-    for x, y in points:
-        flat[x, y] = field.put(1, evens(points[x, y], points[(x + 1) % wide, y]))
-        steep[x, y] = field.put(1, evens(points[x, y], points[x, (y + 1) % high]))
-    for x, y in points:
+    for x, y in corners:
+        flat[x, y] = field.put(1, evens(corners[x, y], corners[(x + 1) % wide, y]))
+        steep[x, y] = field.put(1, evens(corners[x, y], corners[x, (y + 1) % high]))
+    for x, y in corners:
         field.put(2, evens(flat[x, y], flat[x, (y + 1) % high], steep[x, y], steep[(x + 1) % wide, y]))
     return field
 
@@ -113,13 +148,34 @@ def with_gaps(field):
     return other
 
 
-def settled(field):
-    """Point 12, by hand: the field with each pair tied that is not refused at its turn."""
+def pairs_by_words(field):
+    """Point 12: each pair is tied that is not refused at its turn; these pairs."""
+    pairs = []
     for low in field.cells():
         for high in field.over(low):
             with contextlib.suppress(BodyError):
                 field.tie(low, high)
+                pairs.append((low, high))
+    return pairs
+
+
+def settled(field):
+    """The field, settled by hand."""
+    pairs_by_words(field)
     return field
+
+
+def rebuilt(field):
+    """A field to which nothing was done but putting in, taking away and tying, with all the same."""
+    other = Field()
+    for cell in range(field.coming()):
+        if field.stands(cell):
+            other.put(field.rank(cell), field.border(cell))
+        else:
+            other.take(other.put(0, []))
+    for low, high in field.arrows():
+        other.tie(low, high)
+    return other
 
 
 def rounds_of(field, rank):
@@ -211,6 +267,14 @@ def many_fields():
     by_hand = [tied_row(5), fan(6), with_gaps(tied_row(6)), with_gaps(fan(5))]
     return bare + by_hand + settled_fields() + [retied(field) for field in settled_fields()] + [
         some_field(seed) for seed in range(40)] + [some_branches(seed) for seed in range(20)]
+
+
+def some_sums(cells, chance, count=12):
+    """Nothing, all, each cell, and sums of some of the cells."""
+    rows = [[], list(cells)] + [[cell] for cell in cells]
+    for _ in range(count):
+        rows.append([cell for cell in cells if chance.randrange(2)])
+    return rows
 
 
 def steps_by_words(arrows, borders, tail):

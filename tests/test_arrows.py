@@ -3,6 +3,7 @@
 import unittest
 
 from bodies import GREAT, triangle
+from cases import FieldTest
 from fields import closed_row, full_field, many_fields, told_field
 from slimbody.errors import Covered, NoCell, NotFace, NotTied, RingOfArrows, Tied
 from slimbody.field import Field
@@ -18,27 +19,7 @@ def with_a_gap():
 ABSENT = [-1, 7, 8, 9, GREAT, -GREAT]
 
 
-class ArrowsTest(unittest.TestCase):
-    def assert_refused(self, refusal, field, deed, *values):
-        before = told_field(field)
-        with self.assertRaises(refusal) as caught:
-            deed(*values)
-        self.assertIs(caught.exception.__class__, refusal)
-        self.assertEqual(told_field(field), before)
-
-    def assert_arrows(self, field, arrows):
-        """All that is told of arrows goes with these."""
-        tails, heads = [low for low, _ in arrows], sorted(high for _, high in arrows)
-        self.assertEqual(field.arrows(), arrows)
-        self.assertEqual((field.tails(), field.heads()), (tails, heads))
-        self.assertEqual(field.lone(), [cell for cell in field.cells() if cell not in tails + heads])
-        for cell in field.cells():
-            self.assertEqual(field.head_of(cell), dict(arrows).get(cell))
-            self.assertEqual(field.tail_of(cell), {high: low for low, high in arrows}.get(cell))
-        self.assertEqual(sorted(field.order()), tails)
-
-
-class TieTest(ArrowsTest):
+class TieTest(FieldTest):
     def test_none_told(self):
         self.assertIsNone(triangle(Field).tie(0, 3))
 
@@ -103,7 +84,7 @@ class TieTest(ArrowsTest):
         self.assertEqual(field.lone(), [])
 
 
-class TieRefusalsTest(ArrowsTest):
+class TieRefusalsTest(FieldTest):
     def test_no_cell(self):
         field = with_a_gap()
         field.tie(0, 3)
@@ -142,7 +123,7 @@ class TieRefusalsTest(ArrowsTest):
         self.assert_arrows(field, [(3, 6)])
 
 
-class OrderOfTieRefusalsTest(ArrowsTest):
+class OrderOfTieRefusalsTest(FieldTest):
     def test_not_face_ahead_of_tied(self):
         field = triangle(Field)
         field.tie(0, 3)
@@ -171,7 +152,7 @@ class OrderOfTieRefusalsTest(ArrowsTest):
         self.assert_refused(Tied, field, field.tie, 3, 7)
 
 
-class UntieTest(ArrowsTest):
+class UntieTest(FieldTest):
     def test_the_head_is_told(self):
         field = full_field(4)
         field.tie(0, 4)
@@ -219,7 +200,7 @@ class UntieTest(ArrowsTest):
         self.assert_arrows(field, [(1, 5), (2, 4)])
 
 
-class AskTest(ArrowsTest):
+class AskTest(FieldTest):
     def test_no_cell(self):
         field = with_a_gap()
         field.tie(0, 3)
@@ -264,7 +245,7 @@ class AskTest(ArrowsTest):
             self.assertIsNot(ask(), ask())
 
 
-class TakeTest(ArrowsTest):
+class TakeTest(FieldTest):
     def test_no_cell(self):
         field = with_a_gap()
         field.tie(0, 3)

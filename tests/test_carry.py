@@ -4,29 +4,13 @@ import random
 import unittest
 
 from bodies import GREAT, triangle
-from fields import (fan, filler_by_words, full_field, grid, many_fields, retied, settled, soon, tied_row, told_field,
-                    with_gaps)
+from fields import (fan, filler_by_words, full_field, grid, many_fields, retied, settled, some_sums, soon, tied_row,
+                    tied_triangle, told_field, with_gaps)
 from slimbody.carry import down, filled, slim_border, up
 from slimbody.errors import NoCell, NotASum, NotLone
 from slimbody.field import Field
 from slimbody.roads import roads
 from slimbody.sums import total
-
-
-def tied_triangle():
-    """The triangle with points 0 and 1 tied to stretches 3 and 5: lone are 2, 4, 6."""
-    field = triangle(Field)
-    field.tie(0, 3)
-    field.tie(1, 5)
-    return field
-
-
-def some_sums(cells, chance, count=12):
-    """Nothing, all, each cell, and sums of some of the cells."""
-    rows = [[], list(cells)] + [[cell] for cell in cells]
-    for _ in range(count):
-        rows.append([cell for cell in cells if chance.randrange(2)])
-    return rows
 
 
 class FilledTest(unittest.TestCase):

@@ -9,6 +9,9 @@ FUNCTIONS = {
     "field": ["field_on(body)"],
     "roads": ["roads(field, high, low)", "only_road(field, high, low)"],
     "carry": ["filled(field, row)", "down(field, row)", "up(field, row)", "slim_border(field, row)"],
+    "slim": ["slim_body(field)"],
+    "deeds": ["settle(field)", "cancel(field, high, low)", "fold(field, low)", "grow(field, rank, row)"],
+    "rounds": ["is_round(body, row)", "filling(body, row)", "bar(body, row)", "slim_filling(field, row)"],
 }
 BODY = ["put(rank, border)", "take(cell)", "stands(cell)", "cells()", "coming()", "rank(cell)", "border(cell)",
         "over(cell)", "border_of(row)", "of_rank(rank)", "counts()", "twin()"]

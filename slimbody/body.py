@@ -97,6 +97,10 @@ class Body:
         self.borders = dict(body.borders)
         self.upcoming = body.upcoming
 
+    def skip_to(self, number):
+        """Have the next cell get this number, which no cell had."""
+        self.upcoming = number
+
     def must_stand(self, cell):
         """Refuse a cell that does not stand."""
         if cell not in self.ranks:

@@ -7,6 +7,7 @@ import signal
 
 from bodies import points, told, triangle
 from slimbody.carry import down, filled, slim_border, up
+from slimbody.deeds import cancel, fold, grow, settle
 from slimbody.errors import BodyError
 from slimbody.field import Field
 from slimbody.slim import slim_body
@@ -211,6 +212,27 @@ def some_deed(chance, field):
         field.tie(low, chance.choice(field.over(low) or cells))
     else:
         field.untie(chance.choice(field.tails() or cells))
+
+
+def any_deed(chance, field):
+    """One of the eight deeds of point 28, with values that may be refused."""
+    cells, tails = field.cells() + [-1, field.coming()], field.tails() + [0]
+    low, tail, rank = chance.choice(cells), chance.choice(tails), chance.choice([0, 0, 1, 1, 2, -1, 12])
+    high = chance.choice((field.over(low) if field.stands(low) else []) + field.lone() + cells[-1:])
+    row = [cell for cell in field.of_rank(rank) if chance.randrange(2)]
+    border = chance.choice([[], field.border_of(row), [low], [low, high]])
+    return chance.choice([
+        ("put", rank, border), ("take", low), ("tie", low, high), ("tie", low, high), ("untie", tail), ("untie", low),
+        ("cancel", high, low), ("cancel", high, low), ("fold", tail), ("fold", low), ("grow", rank, row),
+        ("grow", rank, border), ("settle",)])
+
+
+def done_to(field, what):
+    """What the def or method of the deed's name tells, when it is done to a field."""
+    name, *values = what
+    if name in ("put", "take", "tie", "untie"):
+        return getattr(field, name)(*values)
+    return {"settle": settle, "cancel": cancel, "fold": fold, "grow": grow}[name](field, *values)
 
 
 def some_field(seed, deeds=150):

@@ -5,7 +5,8 @@ import unittest
 
 from bodies import GREAT, told, triangle
 from cases import FieldTest
-from fields import full_field, grid, rebuilt, rounds_of, some_field, told_carriers, told_field, told_slim, with_gaps
+from fields import (any_deed, done_to, full_field, grid, rebuilt, rounds_of, some_field, told_carriers, told_field,
+                    told_slim, with_gaps)
 from slimbody.carry import down
 from slimbody.deeds import cancel, fold, grow, settle
 from slimbody.errors import BodyError
@@ -32,20 +33,6 @@ def answers(field):
             answer = refusal.__class__, vars(refusal)
         behind.append((answer, told_field(twin)))
     return told_field(field), told_slim(field), told_carriers(field), filled, counts, behind
-
-
-def some_deed(chance, field):
-    """One of the eight deeds, with values that may be refused."""
-    cells, tails = field.cells() + [-1, field.coming()], field.tails() + [0]
-    low, tail, rank = chance.choice(cells), chance.choice(tails), chance.choice([0, 0, 1, 1, 2, -1, 12])
-    high = chance.choice((field.over(low) if field.stands(low) else []) + field.lone() + cells[-1:])
-    row = [cell for cell in field.of_rank(rank) if chance.randrange(2)]
-    border = chance.choice([[], field.border_of(row), [low], [low, high]])
-    return chance.choice([
-        (field.put, rank, border), (field.take, low), (field.tie, low, high), (field.tie, low, high),
-        (field.untie, tail), (field.untie, low), (cancel, field, high, low), (cancel, field, high, low),
-        (fold, field, tail), (fold, field, low), (grow, field, rank, row), (grow, field, rank, border),
-        (settle, field)])
 
 
 class BehindDeedsTest(FieldTest):
@@ -94,12 +81,13 @@ class BehindDeedsTest(FieldTest):
             chance = random.Random(seed)
             field = [triangle(Field), with_gaps(triangle(Field)), some_field(seed, 40)][seed % 3]
             for _ in range(30):
-                deed, *values = some_deed(chance, field)
-                if len(field.cells()) > 14 and deed in (grow, field.put):
+                what = any_deed(chance, field)
+                name = what[0]
+                if len(field.cells()) > 14 and name in ("grow", "put"):
                     continue
-                before, name = told_field(field), deed.__name__
+                before = told_field(field)
                 try:
-                    deed(*values)
+                    done_to(field, what)
                 except BodyError:
                     self.assertEqual(told_field(field), before)
                     name = "refused " + name
@@ -116,9 +104,8 @@ class BehindDeedsTest(FieldTest):
         self.assertEqual(answers(twin), before)
         chance = random.Random(5)
         for _ in range(40):
-            deed, *values = some_deed(chance, twin)
             try:
-                deed(*values)
+                done_to(twin, any_deed(chance, twin))
             except BodyError:
                 continue
         self.assertNotEqual(told_field(twin), told_field(field))

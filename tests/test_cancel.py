@@ -128,9 +128,10 @@ class RoadTurnedTest(CancelTest):
 
     def test_one_behind_the_other(self):
         for field in many_fields():
-            while single_roads(field):
-                high, low = single_roads(field)[-1]
-                self.assert_cancelled(field, high, low)
+            pairs = single_roads(field)
+            while pairs:
+                self.assert_cancelled(field, *pairs[-1])
+                pairs = single_roads(field)
             for high in field.lone():
                 for low in field.lone():
                     self.assertNotEqual(roads(field, high, low), 1)

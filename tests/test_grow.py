@@ -101,7 +101,7 @@ class GrownTest(GrowTest):
         for number, field in enumerate(many_fields()):
             for rank in range(4):
                 for row in some_sums(field.of_rank(rank), random.Random(number), 2)[-3:]:
-                    if len(field.cells()) < 40:
+                    if len(field.cells()) < 30:
                         self.assert_grown(field, rank, row)
 
     def test_up_to_120_cells(self):

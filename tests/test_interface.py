@@ -12,6 +12,8 @@ FUNCTIONS = {
     "slim": ["slim_body(field)"],
     "deeds": ["settle(field)", "cancel(field, high, low)", "fold(field, low)", "grow(field, rank, row)"],
     "rounds": ["is_round(body, row)", "filling(body, row)", "bar(body, row)", "slim_filling(field, row)"],
+    "shapes": ["full_body(n)", "round_body(n)", "apart(one, other)", "product(one, other)"],
+    "notes": ["shown_sum(row)", "read_sum(line)", "written(field)", "read_field(lines)"],
 }
 BODY = ["put(rank, border)", "take(cell)", "stands(cell)", "cells()", "coming()", "rank(cell)", "border(cell)",
         "over(cell)", "border_of(row)", "of_rank(rank)", "counts()", "twin()"]
@@ -19,6 +21,9 @@ METHODS = {
     ("body", "Body"): BODY,
     ("field", "Field"): BODY + ["tie(low, high)", "untie(low)", "head_of(cell)", "tail_of(cell)", "tails()", "heads()",
                                 "lone()", "arrows()", "order()"],
+    ("tower", "Tower"): ["__init__(body)", "floors()", "floor(k)", "build()", "raze()", "tie(low, high)", "untie(low)",
+                         "settle()", "filled(row)", "down(row)", "up(row)", "slim_border(row)"],
+    ("room", "Room"): ["__init__()", "deed(what)", "back()", "journal()", "field()"],
 }
 
 

@@ -125,6 +125,16 @@ class LanguageTest(unittest.TestCase):
             if isinstance(node, ast.arg):
                 self.assertFalse(hasattr(builtins, node.arg), where)
 
+    def test_no_local_name_is_an_import_or_a_class(self):
+        for name, _, tree in sources():
+            taken = {alias.name for node in tree.body if isinstance(node, ast.ImportFrom) for alias in node.names}
+            taken |= {node.name for node in tree.body if isinstance(node, ast.ClassDef)}
+            for node in ast.walk(tree):
+                if isinstance(node, ast.Name) and isinstance(node.ctx, ast.Store):
+                    self.assertNotIn(node.id, taken, (name, node.lineno))
+                if isinstance(node, (ast.arg, ast.MatchAs)):
+                    self.assertNotIn(getattr(node, "arg", getattr(node, "name", None)), taken, (name, node.lineno))
+
     def test_no_name_is_both_method_and_attribute(self):
         methods, attributes = set(), set()
         for _, node in each_node():

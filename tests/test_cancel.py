@@ -5,8 +5,8 @@ import unittest
 
 from bodies import GREAT, told, triangle
 from cases import FieldTest
-from fields import (fan, full_field, grid, many_fields, rebuilt, roads_by_words, row_of_points, settled, some_sums, soon,
-                    tied_row, tied_triangle, told_field, with_gaps)
+from fields import (fan, full_field, grid, many_fields, rebuilt, roads_by_words, row_of_points, settled, some_sums,
+                    soon, tied_row, tied_triangle, told_field, with_gaps)
 from slimbody.carry import down, slim_border, up
 from slimbody.deeds import cancel, settle
 from slimbody.errors import ManyRoads, NoCell, NotLone

@@ -76,7 +76,8 @@ class EachRefusalTest(unittest.TestCase):
 
     def test_values(self):
         for name, value, ask in (("RingOfArrows", "ring", REFUSED["RingOfArrows"][0]),
-                                 ("ManyRoads", "many", REFUSED["ManyRoads"][0]), ("BadRow", "at", REFUSED["BadRow"][2])):
+                                 ("ManyRoads", "many", REFUSED["ManyRoads"][0]),
+                                 ("BadRow", "at", REFUSED["BadRow"][2])):
             with self.assertRaises(getattr(errors, name)) as caught:
                 ask[0](*ask[1:])
             self.assertEqual(getattr(caught.exception, value), {"ring": [2, 0, 1], "many": 2, "at": 1}[value])

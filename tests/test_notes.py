@@ -303,8 +303,8 @@ class FaultsTest(NotesTest):
             self.assert_bad_row(row, ["next 7"])
 
     def test_arrow_rows_of_no_form_behind_cells(self):
-        for row in ("arrow 0 3 ", "arrow 0  3", "arrow 00 3", "arrow 0 03", "arrow 0", "arrow", "arrow 0 3 5", "tie 0 3",
-                    "Arrow 0 3", "arrows 0 3", " 0 3", "next 0 3"):
+        for row in ("arrow 0 3 ", "arrow 0  3", "arrow 00 3", "arrow 0 03", "arrow 0", "arrow", "arrow 0 3 5",
+                    "tie 0 3", "Arrow 0 3", "arrows 0 3", " 0 3", "next 0 3"):
             self.assert_bad_row(row)
             self.assert_bad_row(row.replace("0", "2").replace("3", "5"), TRIANGLE + ["arrow 0 3"])
 

@@ -66,7 +66,8 @@ class ApartTest(TogetherTest):
         self.assertEqual(field.coming(), len(field.cells()))
         later = [(rank, [count + face for face in border]) for rank, border in rows_of(other)]
         self.assertEqual(rows_of(field), rows_of(one) + later)
-        self.assertEqual(field.arrows(), arrows_of(one) + [(count + low, count + high) for low, high in arrows_of(other)])
+        arrows = arrows_of(one) + [(count + low, count + high) for low, high in arrows_of(other)]
+        self.assertEqual(field.arrows(), arrows)
         self.assertEqual(sorted(field.order()), field.tails())
         return field
 

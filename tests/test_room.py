@@ -6,8 +6,8 @@ import unittest
 
 from bodies import GREAT
 from fields import any_deed, done_to, fan, soon, told_field
-from slimbody.errors import (BadRank, BodyError, Covered, Full, ManyRoads, NoCell, NotASum, NotFace, NothingBack, NotLone,
-                             NotTied, OpenBorder, OtherRank, RingOfArrows, Tied)
+from slimbody.errors import (BadRank, BodyError, Covered, Full, ManyRoads, NoCell, NotASum, NotFace, NothingBack,
+                             NotLone, NotTied, OpenBorder, OtherRank, RingOfArrows, Tied)
 from slimbody.field import Field
 from slimbody.room import Room
 
@@ -102,9 +102,10 @@ class DeedTest(RoomTest):
 class RefusalsTest(RoomTest):
     def test_put(self):
         room = room_of(TRIANGLE)
-        for refusal, rank, border in ((BadRank, -1, []), (BadRank, 13, [1, 0]), (BadRank, GREAT, []), (NotASum, 1, [1, 0]),
-                                      (NotASum, 1, [99, 99]), (NoCell, 1, [7]), (NoCell, 1, [GREAT]),
-                                      (OtherRank, 2, [0]), (OpenBorder, 2, [3]), (OtherRank, 0, [0])):
+        for refusal, rank, border in (
+                (BadRank, -1, []), (BadRank, 13, [1, 0]), (BadRank, GREAT, []), (NotASum, 1, [1, 0]),
+                (NotASum, 1, [99, 99]), (NoCell, 1, [7]), (NoCell, 1, [GREAT]), (OtherRank, 2, [0]),
+                (OtherRank, 0, [0]), (OpenBorder, 2, [3])):
             self.assert_refused(refusal, room, ("put", rank, border))
 
     def test_full(self):

@@ -199,7 +199,8 @@ class FillingAndBarTest(RoundsTest):
         self.assertFalse(self.assert_either(body, [1]))
 
     def test_soon(self):
-        for field in (dense(60, 60, 1), dense(60, 60, 2), fan(59), grid(5, 6), full_field(6), full(), points(120), closed_row(60)):
+        for field in (dense(60, 60, 1), dense(60, 60, 2), fan(59), grid(5, 6), full_field(6), full(),
+                      points(120), closed_row(60)):
             for row in some_sums(field.cells(), random.Random(4), 3)[-12:]:
                 self.assert_either(field, row)
                 self.assert_either(field, field.border_of(row))
@@ -239,8 +240,8 @@ class SlimFillingTest(RoundsTest):
                 self.assert_slim(field, field.border_of(row))
 
     def test_soon(self):
-        for field in (dense(60, 60, 1), settled(dense(60, 60, 2)), fan(59), settled(grid(5, 6)), settled(full_field(6)), tied_row(60),
-                      points(120, Field)):
+        for field in (dense(60, 60, 1), settled(dense(60, 60, 2)), fan(59), settled(grid(5, 6)),
+                      settled(full_field(6)), tied_row(60), points(120, Field)):
             for row in some_sums(field.cells(), random.Random(4), 2)[-4:]:
                 self.assert_slim(field, row)
                 self.assert_slim(field, field.border_of(row))
